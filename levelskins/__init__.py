@@ -1,0 +1,1 @@
+"""Levelskins: skins drawn through fields of numbers."""

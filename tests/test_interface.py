@@ -1,0 +1,30 @@
+"""The interface: each name is defined in the file under which it is listed, with the arguments that are told."""
+
+import importlib
+import inspect
+import unittest
+
+LISTED = {
+    "grids": {
+        "is_grid": ["thing"], "cells": ["grid"], "corners": ["grid"], "faces_of": ["grid", "cell"],
+        "faces": ["grid"], "round_of": ["grid", "face"],
+    },
+    "mesh": {
+        "turn": ["wedge"], "wedges_of": ["grid", "cell"], "wedges": ["grid"], "points": ["grid"], "ties": ["grid"],
+        "triangles": ["grid"],
+    },
+}
+
+
+class Interface(unittest.TestCase):
+    def test_functions(self):
+        for file, functions in LISTED.items():
+            module = importlib.import_module(f"levelskins.{file}")
+            for name, arguments in functions.items():
+                function = getattr(module, name)
+                self.assertEqual(function.__module__, module.__name__, name)
+                self.assertEqual(list(inspect.signature(function).parameters), arguments, name)
+
+
+if __name__ == "__main__":
+    unittest.main()
