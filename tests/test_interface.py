@@ -13,6 +13,13 @@ LISTED = {
         "turn": ["wedge"], "wedges_of": ["grid", "cell"], "wedges": ["grid"], "points": ["grid"], "ties": ["grid"],
         "triangles": ["grid"],
     },
+    "meshpapers": {"mesh_holds": ["sizes", "thing"], "mates": ["grid"]},
+    "blocks": {"is_block": ["thing"], "worth": ["block", "point"], "is_high": ["block", "level", "point"]},
+    "places": {"place_of": ["block", "level", "knot"], "along": ["block", "level", "knot"]},
+    "pieces": {
+        "table": [], "piece_in": ["block", "level", "wedge"], "pieces": ["block", "level"],
+        "skin": ["block", "level"],
+    },
 }
 
 
