@@ -1,5 +1,6 @@
 """Grids: boxes cut into places, some of them split; their cells, corners and faces ([4] to [6])."""
 
+from levelskins.cycles import sides_of
 from levelskins.forms import is_point_from, is_rising, is_tuple_of
 from levelskins.space import cube_corners, midst_of, square_corners, stepped
 
@@ -107,9 +108,8 @@ def round_of(grid, face):
 def round_by(marks, face):
     """As round_of, of a grid whose corners are these marks."""
     low, side, axis = face
-    ring = square_corners(low, side, axis)
     told = []
-    for one, other in zip(ring, ring[1:] + ring[:1]):
+    for one, other in sides_of(square_corners(low, side, axis)):
         told.append(one)
         # In the midst of a side of length 2 never lies a corner: these are even along each axis.
         midst = midst_of(one, other)

@@ -1,5 +1,6 @@
 """The mesh of a grid: wedges, and their points, ties and triangles ([7])."""
 
+from levelskins.cycles import sides_of
 from levelskins.grids import cell_middle, cells, corner_marks, face_middle, faces_of, round_by
 from levelskins.space import determinant, difference
 
@@ -25,7 +26,7 @@ def wedges_by(grid, marks, cell):
 
 def fan(m, f, ring):
     """The wedges between a cell's middle and a face's, round which these points go."""
-    return [upright((m, f, p, q)) for p, q in zip(ring, ring[1:] + ring[:1])]
+    return [upright((m, f, p, q)) for p, q in sides_of(ring)]
 
 
 def upright(wedge):
@@ -52,7 +53,12 @@ def points_in(told):
 
 def ties(grid):
     """The ties, rising."""
-    return tuple(sorted({tie for wedge in wedges(grid) for tie in ties_of(wedge)}))
+    return ties_in(wedges(grid))
+
+
+def ties_in(told):
+    """The ties of these wedges, each once, rising."""
+    return tuple(sorted({tie for wedge in told for tie in ties_of(wedge)}))
 
 
 def ties_of(wedge):
@@ -63,7 +69,12 @@ def ties_of(wedge):
 
 def triangles(grid):
     """The triangles, rising."""
-    return tuple(sorted({triangle for wedge in wedges(grid) for triangle in triangles_of(wedge)}))
+    return triangles_in(wedges(grid))
+
+
+def triangles_in(told):
+    """The triangles of these wedges, each once, rising."""
+    return tuple(sorted({triangle for wedge in told for triangle in triangles_of(wedge)}))
 
 
 def triangles_of(wedge):

@@ -1,13 +1,13 @@
 """[9]: blocks, worths, levels, kinds."""
 
 import unittest
-from itertools import product
 
 from levelskins import blocks
 from levelskins.blocks import is_block, is_high, worth
-from levelskins.grids import cells, corners, faces, is_grid
+from levelskins.grids import corners, is_grid
 from levelskins.mesh import points
 from tests.samples import asked, few_grids, is_int, odd_things, sample_blocks, variants
+from tests.words import worths_by_words
 
 
 def block_by_words(thing):
@@ -16,23 +16,6 @@ def block_by_words(thing):
         return False
     in_range = [is_int(number) and -9999 <= number <= 9999 for number in thing[1]]
     return all(in_range) and len(in_range) == len(corners(thing[0]))
-
-
-def worths_by_words(block):
-    """The worth of each point of the mesh: of all cells' middles, of all faces', then of all corners."""
-    grid, numbers = block
-    number_at = dict(zip(corners(grid), numbers))
-    told = {}
-    for low, side in cells(grid):
-        around = [tuple(map(sum, zip(low, by))) for by in product((0, side), repeat=3)]
-        told[tuple(number + side // 2 for number in low)] = sum(number_at[corner] for corner in around)
-    for low, side, across in faces(grid):
-        reach = [(0,) if axis == across else (0, side) for axis in range(3)]
-        around = [tuple(map(sum, zip(low, by))) for by in product(*reach)]
-        middle = tuple(number + (0 if axis == across else side // 2) for axis, number in enumerate(low))
-        told[middle] = 2 * sum(number_at[corner] for corner in around)
-    told.update({corner: 8 * number for corner, number in number_at.items()})
-    return told
 
 
 class IsBlock(unittest.TestCase):

@@ -20,6 +20,14 @@ LISTED = {
         "table": [], "piece_in": ["block", "level", "wedge"], "pieces": ["block", "level"],
         "skin": ["block", "level"],
     },
+    "skins": {
+        "closed_holds": ["sizes", "thing"], "turned_back": ["cycle"], "partners": ["cycles"], "parts": ["cycles"],
+        "rims": ["cycles"],
+    },
+    "counts": {"counts": ["cycles"], "euler": ["cycles"], "holes": ["cycles"]},
+    "regions": {
+        "regions": ["block", "level"], "region_holds": ["block", "level", "thing"], "own_counts": ["block", "level"],
+    },
 }
 
 

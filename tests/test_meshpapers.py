@@ -8,15 +8,10 @@ from itertools import combinations, permutations, product
 from levelskins.mesh import triangles, turn, wedges
 from levelskins.meshpapers import mates, mesh_holds
 from tests.samples import (
-    ALL_SIZES, asked, assert_rising, few_grids, is_three, odd_things, places, sample_grids, variants,
+    ALL_SIZES, asked, assert_rising, few_grids, is_three, odd_things, on_one_side, places, sample_grids, variants,
 )
 
 EVEN = [order for order in permutations(range(4)) if sum(a > b for a, b in combinations(order, 2)) % 2 == 0]
-
-
-def on_rim(sizes, triple):
-    return any(len({point[axis] for point in triple} | {end}) == 1
-               for axis in range(3) for end in (0, 4 * sizes[axis]))
 
 
 def holds_by_words(sizes, thing):
@@ -37,7 +32,7 @@ def holds_by_words(sizes, thing):
         for fourth in four:
             having.setdefault(frozenset(four) - {fourth}, []).append(fourth)
     for triple, fourths in having.items():
-        if len(fourths) > 2 or (len(fourths) == 1 and not on_rim(sizes, triple)):
+        if len(fourths) > 2 or (len(fourths) == 1 and not on_one_side(sizes, triple)):
             return False
         signs = Counter(turn((*sorted(triple), fourth)) > 0 for fourth in fourths)
         if max(signs.values()) > 1:
@@ -281,11 +276,11 @@ class Mates(unittest.TestCase):
                 triangle, wedge, other = row
                 if other is None:
                     self.assertEqual([wedge], having[triangle])
-                    self.assertTrue(on_rim(grid[0], triangle))
+                    self.assertTrue(on_one_side(grid[0], triangle))
                 else:
                     self.assertLess(wedge, other)
                     self.assertEqual([wedge, other], having[triangle])
-                    self.assertFalse(on_rim(grid[0], triangle))
+                    self.assertFalse(on_one_side(grid[0], triangle))
 
 
 if __name__ == "__main__":

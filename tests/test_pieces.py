@@ -10,18 +10,13 @@ from levelskins.grids import corners
 from levelskins.mesh import ties, turn, wedges
 from levelskins.pieces import piece_in, pieces, skin, table
 from levelskins.places import place_of
-from tests.samples import asked, assert_rising, few_grids, sample_blocks
+from tests.samples import asked, assert_rising, few_grids, least_first, on_one_side, sample_blocks, sides
 
 BASES = (
     ((1, 0, 0, 0), ((0, 1), (0, 2), (0, 3))),
     ((0, 1, 1, 1), ((3, 0), (2, 0), (1, 0))),
     ((1, 1, 0, 0), ((0, 2), (0, 3), (1, 3), (1, 2))),
 )
-
-
-def least_first(cycle):
-    at = cycle.index(min(cycle))
-    return tuple(cycle[at:] + cycle[:at])
 
 
 def rows_by_words():
@@ -34,14 +29,6 @@ def rows_by_words():
                 told = least_first([(order[high], order[low]) for high, low in cycle])
                 rows.setdefault(exchanged, set()).add(told)
     return rows
-
-
-def sides(cycle):
-    return list(zip(cycle, cycle[1:] + cycle[:1]))
-
-
-def on_one_side(sizes, told):
-    return any(all(point[axis] == end for point in told) for axis in range(3) for end in (0, 4 * sizes[axis]))
 
 
 def cross(one, other):
