@@ -6,7 +6,11 @@ from levelskins.ratios import fraction
 
 def along(block, level, knot):
     """The part of the way from the low point to the high one at which the knot lies: a fraction."""
-    numbers = numbers_at(block)
+    return along_by(numbers_at(block), level, knot)
+
+
+def along_by(numbers, level, knot):
+    """As along, of a block with these numbers at its corners."""
     high, low = knot
     least = worth_by(numbers, low)
     return fraction(EIGHTHS * level - least, worth_by(numbers, high) - least)
@@ -14,9 +18,12 @@ def along(block, level, knot):
 
 def place_of(block, level, knot):
     """The place of the knot: three fractions."""
-    above, below = along(block, level, knot)
+    above, below = spot_by(numbers_at(block), level, knot)
+    return tuple([fraction(number, below) for number in above])
+
+
+def spot_by(numbers, level, knot):
+    """The place of the knot as three numbers and one number, by which each of them is to be divided."""
+    above, below = along_by(numbers, level, knot)
     high, low = knot
-    return tuple([
-        fraction(start * below + (end - start) * above, below)
-        for start, end in zip(low, high)
-    ])
+    return (tuple([start * below + (end - start) * above for start, end in zip(low, high)]), below)

@@ -3,7 +3,9 @@
 import copy
 import random
 from collections import namedtuple
+from fractions import Fraction
 from itertools import product
+from math import gcd
 
 ALL_SIZES = tuple(sizes for sizes in product((1, 2, 3), repeat=3) if sizes[0] * sizes[1] * sizes[2] <= 8)
 # holes has (handles, rims) of each part; highs and lows are how many regions there are.
@@ -198,9 +200,23 @@ def assert_rising(case, things):
         case.assertLess(one, other)
 
 
+def assert_fraction(case, told, wanted):
+    case.assertIs(type(told), tuple)
+    above, below = told
+    case.assertTrue(is_int(above) and is_int(below))
+    case.assertGreaterEqual(below, 1)
+    case.assertEqual(gcd(above, below), 1)
+    case.assertEqual(Fraction(above, below), wanted)
+
+
 def is_int(thing):
     return type(thing) is int
 
 
 def is_three(thing):
     return type(thing) is tuple and len(thing) == 3 and all(is_int(part) for part in thing)
+
+
+def is_point_in(sizes, thing):
+    """Whether it is a point in the box."""
+    return is_three(thing) and all(0 <= number <= 4 * size for number, size in zip(thing, sizes))

@@ -28,6 +28,14 @@ LISTED = {
     "regions": {
         "regions": ["block", "level"], "region_holds": ["block", "level", "thing"], "own_counts": ["block", "level"],
     },
+    "nests": {"nest": ["block", "level"], "nest_holds": ["highs", "lows", "thing"]},
+    "walks": {
+        "walk_holds": ["grid", "thing"], "crossed": ["block", "level", "walk"],
+        "parted": ["block", "level", "one", "other"], "fewest": ["block", "level", "one", "other"],
+        "heights_hold": ["block", "level", "thing"],
+    },
+    "volumes": {"part_of": ["block", "level", "wedge"], "volume": ["block", "level"]},
+    "lids": {"lids": ["block", "level"], "volume_by": ["block", "level", "cycles", "lids"]},
 }
 
 

@@ -8,7 +8,7 @@ from itertools import combinations, permutations, product
 from levelskins.mesh import triangles, turn, wedges
 from levelskins.meshpapers import mates, mesh_holds
 from tests.samples import (
-    ALL_SIZES, asked, assert_rising, few_grids, is_three, odd_things, on_one_side, places, sample_grids, variants,
+    ALL_SIZES, asked, assert_rising, few_grids, is_point_in, odd_things, on_one_side, places, sample_grids, variants,
 )
 
 EVEN = [order for order in permutations(range(4)) if sum(a > b for a, b in combinations(order, 2)) % 2 == 0]
@@ -19,9 +19,7 @@ def holds_by_words(sizes, thing):
     if type(thing) is not tuple or len(thing) > 2000:
         return False
     for four in thing:
-        if type(four) is not tuple or len(four) != 4 or not all(is_three(point) for point in four):
-            return False
-        if not all(0 <= number <= 4 * size for point in four for number, size in zip(point, sizes)):
+        if type(four) is not tuple or len(four) != 4 or not all(is_point_in(sizes, point) for point in four):
             return False
         if turn(four) <= 0:
             return False

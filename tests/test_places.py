@@ -2,13 +2,12 @@
 
 import unittest
 from fractions import Fraction
-from math import gcd
 
 from levelskins.blocks import is_high, worth
 from levelskins.grids import corners
 from levelskins.mesh import ties
 from levelskins.places import along, place_of
-from tests.samples import asked, sample_blocks
+from tests.samples import asked, assert_fraction, sample_blocks
 
 CELL = ((1, 1, 1), ())
 
@@ -26,15 +25,6 @@ def part_by_words(block, level, knot):
 
 
 class Fractions(unittest.TestCase):
-    def assert_fraction(self, told, wanted):
-        self.assertIs(type(told), tuple)
-        above, below = told
-        self.assertIs(type(above), int)
-        self.assertIs(type(below), int)
-        self.assertGreaterEqual(below, 1)
-        self.assertEqual(gcd(above, below), 1)
-        self.assertEqual(Fraction(above, below), wanted)
-
     def test_by_words(self):
         for spread, levels in ((3, (-2, 0, 1)), (9999, (-5000, 7))):
             for block in list(sample_blocks(corners, spread=spread))[:7]:
@@ -42,12 +32,12 @@ class Fractions(unittest.TestCase):
                     for knot in list(knots(block, level))[::4]:
                         part = part_by_words(block, level, knot)
                         self.assertTrue(0 < part <= 1)
-                        self.assert_fraction(along(block, level, knot), part)
+                        assert_fraction(self, along(block, level, knot), part)
                         told = place_of(block, level, knot)
                         self.assertIs(type(told), tuple)
                         self.assertEqual(len(told), 3)
                         for number, end, start in zip(told, *knot):
-                            self.assert_fraction(number, start + part * (end - start))
+                            assert_fraction(self, number, start + part * (end - start))
 
     def test_asked_twice(self):
         for block in sample_blocks(corners):

@@ -7,7 +7,7 @@ from levelskins.grids import corners
 from levelskins.pieces import skin
 from levelskins.skins import closed_holds, partners, parts, rims, turned_back
 from tests.samples import (
-    ALL_SIZES, SOLIDS, asked, assert_rising, is_three, known_blocks, knots_in, least_first, odd_things, on_one_side,
+    ALL_SIZES, SOLIDS, asked, assert_rising, is_point_in, known_blocks, knots_in, least_first, odd_things, on_one_side,
     sample_blocks, sides, solid, solids, variants,
 )
 
@@ -20,9 +20,7 @@ def is_cycle(sizes, thing):
     if type(thing) is not tuple or len(thing) not in (3, 4):
         return False
     for knot in thing:
-        if type(knot) is not tuple or len(knot) != 2 or not all(is_three(point) for point in knot):
-            return False
-        if not all(0 <= number <= 4 * size for point in knot for number, size in zip(point, sizes)):
+        if type(knot) is not tuple or len(knot) != 2 or not all(is_point_in(sizes, point) for point in knot):
             return False
         if knot[0] == knot[1] or thing.count(knot) != 1:
             return False
