@@ -12,9 +12,17 @@ def is_block(thing):
     if not is_tuple_of(thing, 2) or not is_grid(thing[0]):
         return False
     grid, numbers = thing
-    if not is_tuple_of(numbers, len(corners(grid))):
-        return False
-    return all([is_number_from(number, -MOST, MOST) for number in numbers])
+    return are_numbers(numbers, len(corners(grid)))
+
+
+def are_numbers(thing, count):
+    """Whether it is a tuple of so many numbers, each such as a corner may bear."""
+    return is_tuple_of(thing, count) and all([in_range(number) for number in thing])
+
+
+def in_range(thing):
+    """Whether it is such a number as a corner may bear, and a level may be."""
+    return is_number_from(thing, -MOST, MOST)
 
 
 def worth(block, point):
@@ -42,8 +50,11 @@ def corners_round(middle):
     # Corners are even: only the middle of what has side 2 is odd, along the axes in which this reaches out.
     side = HALF if any([number & 1 for number in middle]) else SIDE
     half = side // 2
-    x, y, z = [(number - half, number + half) if number % side else (number,) for number in middle]
-    return [(u, v, w) for u in x for v in y for w in z]
+    around = [()]
+    for number in middle:
+        ends = (number - half, number + half) if number % side else (number,)
+        around = [start + (end,) for start in around for end in ends]
+    return around
 
 
 def is_high(block, level, point):
@@ -53,5 +64,15 @@ def is_high(block, level, point):
 
 def kinds_by(block, level, told):
     """For each of these points 1 if it is high, else 0."""
+    return kinds_at(worths_by(block, told), level)
+
+
+def worths_by(block, told):
+    """What each of these points is worth, in eighths."""
     numbers = numbers_at(block)
-    return {point: int(worth_by(numbers, point) >= EIGHTHS * level) for point in told}
+    return {point: worth_by(numbers, point) for point in told}
+
+
+def kinds_at(worths, level):
+    """For each of the points with these worths 1 if it is high, else 0."""
+    return {point: int(worths[point] >= EIGHTHS * level) for point in worths}

@@ -37,8 +37,14 @@ def upright(wedge):
 
 def wedges(grid):
     """All wedges, rising."""
+    by_cell = wedges_by_cell(grid)
+    return tuple(sorted([wedge for cell in by_cell for wedge in by_cell[cell]]))
+
+
+def wedges_by_cell(grid):
+    """For each cell, these rising, its wedges, rising."""
     marks = corner_marks(grid)
-    return tuple(sorted([wedge for cell in cells(grid) for wedge in wedges_by(grid, marks, cell)]))
+    return {cell: tuple(sorted(wedges_by(grid, marks, cell))) for cell in cells(grid)}
 
 
 def points(grid):

@@ -10,8 +10,12 @@ from levelskins.mesh import points_in, ties_in, triangles_in, wedges
 def regions(block, level):
     """The regions of high points and those of low ones, rising."""
     whole = wedges(block[0])
-    kinds = kinds_by(block, level, points_in(whole))
-    like = [tie for tie in ties_in(whole) if kinds[tie[0]] == kinds[tie[1]]]
+    return regions_by(kinds_by(block, level, points_in(whole)), ties_in(whole))
+
+
+def regions_by(kinds, known):
+    """As regions, of points of these kinds, with these ties between them."""
+    like = [tie for tie in known if kinds[tie[0]] == kinds[tie[1]]]
     told = groups(linked(kinds, like))
     return tuple([tuple([region for region in told if kinds[region[0]] == kind]) for kind in (1, 0)])
 

@@ -36,6 +36,9 @@ LISTED = {
     },
     "volumes": {"part_of": ["block", "level", "wedge"], "volume": ["block", "level"]},
     "lids": {"lids": ["block", "level"], "volume_by": ["block", "level", "cycles", "lids"]},
+    "levels": {"touched": ["block", "one", "other"]},
+    "sweeps": {"sweep": ["block"], "count_at": ["block", "events", "level"]},
+    "sheets": {"is_sheet": ["thing"], "steps": ["sheet", "level"]},
 }
 
 

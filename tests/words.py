@@ -38,3 +38,26 @@ def regions_by_words(block, level):
             home.update({point: both for point in both})
     told = {tuple(sorted(region)) for region in home.values()}
     return tuple(tuple(sorted(region for region in told if kinds[region[0]] is kind)) for kind in (True, False))
+
+
+def sheet_worths_by_words(sheet):
+    """The worth of each point of a sheet: of its corners, then of the squares' middles."""
+    (a, b), numbers = sheet
+    told = {(4 * at, 4 * up): 8 * numbers[at * (b + 1) + up] for at in range(a + 1) for up in range(b + 1)}
+    for x, y in product(range(0, 4 * a, 4), range(0, 4 * b, 4)):
+        told[x + 2, y + 2] = sum(told[x + by, y + up] for by in (0, 4) for up in (0, 4)) // 4
+    return told
+
+
+def sheet_kinds_by_words(sheet, level):
+    """Whether each point of a sheet is high."""
+    return {point: number >= 8 * level for point, number in sheet_worths_by_words(sheet).items()}
+
+
+def sheet_triangles_by_words(sizes):
+    """A middle and two corners next to one another, in any turn."""
+    for x, y in product(range(2, 4 * sizes[0], 4), range(2, 4 * sizes[1], 4)):
+        for by, up in ((-2, 0), (2, 0), (0, -2), (0, 2)):
+            one = (x + by, y - 2) if by else (x - 2, y + up)
+            other = (x + by, y + 2) if by else (x + 2, y + up)
+            yield ((x, y), one, other)
