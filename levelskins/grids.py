@@ -26,9 +26,24 @@ def is_split(sizes, thing):
     """Whether it is a rising tuple of places."""
     if not isinstance(thing, tuple):
         return False
-    last = tuple([size - 1 for size in sizes])
     # Ordering comes last, as Python cannot order things of every kind.
-    return all([is_point_from(place, (0, 0, 0), last) for place in thing]) and is_rising(thing)
+    return all([is_place(sizes, place) for place in thing]) and is_rising(thing)
+
+
+def is_place(sizes, thing):
+    """Whether it is a place of the box of these sizes."""
+    return is_point_from(thing, (0, 0, 0), last_place(sizes))
+
+
+def last_place(sizes):
+    """The last place of the box, which is the greatest along each axis."""
+    return tuple([size - 1 for size in sizes])
+
+
+def all_places(sizes):
+    """The places of the box, rising."""
+    a, b, c = sizes
+    return [(i, j, k) for i in range(a) for j in range(b) for k in range(c)]
 
 
 def low_of(place):
@@ -53,9 +68,7 @@ def on_one_side(sizes, points):
 
 def cells(grid):
     """The cells, rising."""
-    a, b, c = grid[0]
-    places = [(i, j, k) for i in range(a) for j in range(b) for k in range(c)]
-    return tuple(sorted([cell for place in places for cell in cells_at(grid, place)]))
+    return tuple(sorted([cell for place in all_places(grid[0]) for cell in cells_at(grid, place)]))
 
 
 def cells_at(grid, place):

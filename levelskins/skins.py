@@ -3,7 +3,7 @@
 from levelskins.cycles import least_first, sides_of
 from levelskins.forms import is_point_from, is_tuple_of
 from levelskins.grids import on_one_side, top_of
-from levelskins.links import groups, linked
+from levelskins.links import groups, linked, ways_and_rings
 
 
 def closed_holds(sizes, thing):
@@ -58,21 +58,5 @@ def parts(cycles):
 
 def rims(cycles):
     """The rings of sides that no cycle has turned back: a rising tuple of tuples of knots, the least first."""
-    left = {side[0]: side[1] for side, number, other in partners(cycles) if other is None}
-    starts = sorted(left)
-    told = []
-    # Each ring is begun at its least knot, so the rings come rising.
-    for start in starts:
-        if start in left:
-            told.append(ring_from(left, start))
-    return tuple(told)
-
-
-def ring_from(left, start):
-    """The ring through the start; its sides, each a knot with the next one, are taken from those that are left."""
-    ring = []
-    knot = start
-    while knot in left:
-        ring.append(knot)
-        knot = left.pop(knot)
-    return tuple(ring)
+    ways, rings = ways_and_rings({side[0]: side[1] for side, number, other in partners(cycles) if other is None})
+    return tuple(rings)

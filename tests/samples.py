@@ -4,10 +4,11 @@ import copy
 import random
 from collections import namedtuple
 from fractions import Fraction
-from itertools import product
+from itertools import permutations, product
 from math import gcd
 
 ALL_SIZES = tuple(sizes for sizes in product((1, 2, 3), repeat=3) if sizes[0] * sizes[1] * sizes[2] <= 8)
+MOVES = tuple(product(permutations((0, 1, 2)), product((0, 1), repeat=3)))
 # holes has (handles, rims) of each part; highs and lows are how many regions there are.
 Known = namedtuple("Known", "name block holes highs lows nest")
 

@@ -39,7 +39,21 @@ LISTED = {
     "levels": {"touched": ["block", "one", "other"]},
     "sweeps": {"sweep": ["block"], "count_at": ["block", "events", "level"]},
     "sheets": {"is_sheet": ["thing"], "steps": ["sheet", "level"]},
+    "lines": {"lines": ["sheet", "level"], "areas": ["sheet", "level"], "layer": ["block", "k"]},
+    "moves": {
+        "moved_point": ["sizes", "move", "point"], "moved": ["block", "move"],
+        "moved_cycles": ["sizes", "move", "cycles"], "mirror": ["move"], "then": ["move", "other"],
+        "undone": ["move"],
+    },
+    "keepers": {"Keeper": ["block", "level"]},
+    "words": {"show": ["block"], "read": ["text"]},
 }
+METHODS = {
+    "its_block": [], "its_level": [], "its_skin": [], "its_cycles": ["cell"], "made": [], "renumber": ["corner", "number"],
+    "relevel": ["level"], "cut": ["place", "numbers"], "heal": ["place"], "back": [], "tried": ["deeds", "tell"],
+    "log": [], "__len__": [], "__eq__": ["other"], "__str__": [],
+}
+VALUES = {("blocks", "MOST"): 9999, ("keepers", "BACKS"): 30, ("keepers", "LINES"): 8}
 
 
 class Interface(unittest.TestCase):
@@ -50,6 +64,19 @@ class Interface(unittest.TestCase):
                 function = getattr(module, name)
                 self.assertEqual(function.__module__, module.__name__, name)
                 self.assertEqual(list(inspect.signature(function).parameters), arguments, name)
+
+    def test_methods(self):
+        own = vars(importlib.import_module("levelskins.keepers").Keeper)
+        for name, arguments in METHODS.items():
+            self.assertEqual(list(inspect.signature(own[name]).parameters), ["self"] + arguments, name)
+        tell = inspect.signature(own["tried"]).parameters["tell"]
+        self.assertEqual((tell.kind, tell.default), (tell.KEYWORD_ONLY, None))
+
+    def test_values(self):
+        for (file, name), wanted in VALUES.items():
+            told = getattr(importlib.import_module(f"levelskins.{file}"), name)
+            self.assertIs(type(told), int)
+            self.assertEqual(told, wanted)
 
 
 if __name__ == "__main__":

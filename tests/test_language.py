@@ -158,6 +158,27 @@ class Rows(unittest.TestCase):
             if isinstance(node.func, ast.Attribute):
                 self.assertIn(node.func.attr, METHODS | own, (path, node.lineno))
 
+    def test_no_name_is_a_method_and_an_attribute(self):
+        methods = {
+            one.name for _, node in nodes(ast.ClassDef) for one in node.body if isinstance(one, ast.FunctionDef)
+        }
+        stored = {node.attr for _, node in nodes(ast.Attribute) if isinstance(node.ctx, ast.Store)}
+        self.assertEqual(methods & stored, set())
+        read = {node.attr for _, node in nodes(ast.Attribute) if isinstance(node.ctx, ast.Load)}
+        self.assertEqual(read - methods - stored - METHODS, set())
+
+    def test_no_error_is_caught(self):
+        # With classes that have a length and an equality of their own, little may stand under a handler.
+        self.assertEqual(nodes(ast.ExceptHandler), [])
+
+    def test_last_rows_of_a_try(self):
+        simple = (ast.Name, ast.Attribute, ast.Constant, ast.List, ast.Tuple, ast.BinOp, ast.Add, ast.Load)
+        for path, node in nodes(ast.Try):
+            for row in node.finalbody:
+                self.assertIsInstance(row, ast.Assign, (path, row.lineno))
+                for part in ast.walk(row.value):
+                    self.assertIsInstance(part, simple, (path, row.lineno))
+
     def test_literals(self):
         for path, node in nodes(ast.Constant):
             self.assertNotIsInstance(node.value, (float, complex, bytes), (path, node.lineno))
