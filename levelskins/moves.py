@@ -47,7 +47,7 @@ def moved_knot(sizes, move, knot):
 def mirror(move):
     """Whether the move is a mirror, which no turning comes to."""
     axes, flips = move
-    swapped = [1 for one, other in ((0, 1), (0, 2), (1, 2)) if axes[one] > axes[other]]
+    swapped = [one for one, other in ((0, 1), (0, 2), (1, 2)) if axes[one] > axes[other]]
     return (len(swapped) + sum(flips)) % 2 == 1
 
 
